@@ -1,0 +1,1 @@
+"""Bandwright: tables of told shapes undone with the fewest deeds."""
