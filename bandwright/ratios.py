@@ -49,3 +49,11 @@ def ratio_over(a, b):
     if b[0] < 0:
         return ratio_times(a, (-b[1], -b[0]))
     return ratio_times(a, (b[1], b[0]))
+
+
+# The row as whole numbers over one bottom, the least that all of them have in common.
+def one_bottom(row):
+    bottom = 1
+    for number in row:
+        bottom = bottom // common_divisor(bottom, number[1]) * number[1]
+    return ([number[0] * (bottom // number[1]) for number in row], bottom)

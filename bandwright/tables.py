@@ -28,6 +28,21 @@ def width(table):
     return wide
 
 
+def square_size(table):
+    if width(table) != len(table):
+        raise NoFit("the table needs as many rows as columns")
+    return len(table)
+
+
+def check_aim(table, aim):
+    if len(aim) != len(table):
+        raise NoFit("an aim needs a number for each row of the table")
+
+
+def has_size(table, n, m):
+    return len(table) == n and all([len(row) == m for row in table])
+
+
 def column(table, place):
     return [row[place] for row in table]
 
@@ -36,36 +51,48 @@ def columns(table):
     return [column(table, place) for place in range(width(table))]
 
 
-# The sum of the products of the numbers at the same places.
+# The sum of the products of the numbers at the same places, of rows as whole numbers: so common divisors are searched
+# for once a sum, not at each step of it, which would take long where numbers are.
+def sum_of_wholes(world, one, other):
+    total = sum([a * b for a, b in zip(one[0], other[0])])
+    return world.of(total, one[1] * other[1])
+
+
+def sums_of_wholes(world, rows, row):
+    return [sum_of_wholes(world, each, row) for each in rows]
+
+
+def all_as_wholes(world, rows):
+    return [world.as_wholes(row) for row in rows]
+
+
 def paired_sum(world, one, other):
-    total = world.of(0)
-    for a, b in zip(one, other):
-        total = world.plus(total, world.times(a, b))
-    return total
+    return sum_of_wholes(world, world.as_wholes(one), world.as_wholes(other))
 
 
-def paired_sums(world, rows, row):
-    return [paired_sum(world, each, row) for each in rows]
+# One row for each of the rows, of its sums with each of the others.
+def paired_sums(world, rows, others):
+    wholes = all_as_wholes(world, others)
+    return [sums_of_wholes(world, wholes, world.as_wholes(row)) for row in rows]
 
 
 def carried(world, table, row):
     if len(row) != width(table):
         raise NoFit("a row needs a number for each column of the table that carries it")
-    return paired_sums(world, table, row)
+    return paired_sums(world, [row], table)[0]
 
 
 def through(world, row, table):
     across = columns(table)
     if len(row) != len(table):
         raise NoFit("a row needs a number for each row of the table that it goes through")
-    return paired_sums(world, across, row)
+    return paired_sums(world, [row], across)[0]
 
 
 def product(world, one, other):
     if width(one) != len(other):
         raise NoFit("the first table needs a column for each row of the second")
-    across = columns(other)
-    return [paired_sums(world, across, row) for row in one]
+    return paired_sums(world, one, columns(other))
 
 
 def one_table_row(world, n, place):

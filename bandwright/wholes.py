@@ -23,3 +23,8 @@ def is_prime(number):
             return False
         divisor += 1
     return number >= 2
+
+
+# Of whole numbers, or of tuples of these, in a list or a tuple.
+def is_rising(things):
+    return all([one < other for one, other in zip(things, things[1:])])

@@ -1,7 +1,7 @@
 """Worlds of numbers: the fractions, and the wheels of a prime."""
 
 from bandwright.errors import NoWorld
-from bandwright.ratios import is_ratio, ratio, ratio_minus, ratio_over, ratio_plus, ratio_times
+from bandwright.ratios import is_ratio, one_bottom, ratio, ratio_minus, ratio_over, ratio_plus, ratio_times
 from bandwright.wheels import is_remainder, remainder_over
 from bandwright.wholes import is_prime, is_whole
 
@@ -63,3 +63,9 @@ class World:
         if self.prime is None:
             return ratio_over(a, b)
         return remainder_over(self.prime, a, b)
+
+    # A row as whole numbers and a bottom that all of them have.
+    def as_wholes(self, row):
+        if self.prime is None:
+            return one_bottom(row)
+        return (list(row), 1)

@@ -11,7 +11,7 @@ OWN_NAMES = set("""len range enumerate zip min max sum abs sorted reversed int s
 isinstance ord repr any all divmod Exception ValueError TypeError KeyError IndexError LookupError ZeroDivisionError
 ArithmeticError OverflowError RuntimeError NotImplementedError AttributeError StopIteration""".split())
 NODES = set("""Module Expr Constant ImportFrom alias FunctionDef arguments arg Lambda ClassDef Assign AugAssign If While
-For Return Break Continue Pass Raise Try ExceptHandler Call Name Attribute Subscript Slice List Tuple Dict Set ListComp
+For Return Break Continue Pass Raise Try ExceptHandler Call keyword Name Attribute Subscript Slice List Tuple Dict Set ListComp
 comprehension IfExp BinOp UnaryOp BoolOp Compare JoinedStr FormattedValue Load Store Add Sub Mult FloorDiv Mod Pow
 BitAnd BitOr BitXor LShift RShift Invert USub UAdd Not And Or Eq NotEq Lt LtE Gt GtE Is IsNot In NotIn""".split())
 METHODS = set("""append clear copy count endswith extend find get index insert isalnum isalpha isdigit islower isspace
@@ -20,6 +20,12 @@ setdefault split splitlines startswith strip update upper values zfill bit_lengt
 WORDS = re.compile(r"\b(type|typing|typing_extensions|enum|Enum|IntEnum|StrEnum|Flag|IntFlag|Generic|Protocol|ABC|"
                    r"ABCMeta|namedtuple|NamedTuple|TypedDict|TYPE_CHECKING|abstractmethod)\b|"
                    r"dataclass|overload|contextmanager")
+KEYWORDS = {"sorted": ("key", "reverse"), "min": ("key", "default"), "max": ("key", "default"), "sum": ("start",),
+            "enumerate": ("start",), "zip": ("strict",)}
+WALKED = ("zip", "enumerate", "reversed", "range")
+WALKED_METHODS = ("items", "keys", "values")
+WALKERS = ("list", "tuple", "dict", "sorted", "sum", "any", "all", "enumerate", "zip", "min", "max")
+CHANGES = ("append", "clear", "extend", "insert", "pop", "remove", "reverse", "setdefault", "update")
 FOREIGN = {name for kind in (str, int, list, dict, set, bytes, tuple) for name in vars(kind)} - METHODS
 
 
@@ -43,7 +49,83 @@ def defined(tree):
     return names + [node.targets[0].id for node in tree.body if isinstance(node, ast.Assign)]
 
 
+def called(node):
+    """The name that a call stands by, or None."""
+    return node.func.id if isinstance(node, ast.Call) and isinstance(node.func, ast.Name) else None
+
+
+def method(node):
+    return node.func.attr if isinstance(node, ast.Call) and isinstance(node.func, ast.Attribute) else None
+
+
+def names_in(node):
+    return {each.id for each in ast.walk(node) if isinstance(each, ast.Name)}
+
+
+def changed_in(rows):
+    """The names whose things some rows change in place."""
+    found = set()
+    for node in [each for row in rows for each in ast.walk(row)]:
+        if isinstance(node, (ast.Subscript, ast.Attribute)) and isinstance(node.ctx, ast.Store):
+            found |= names_in(node.value)
+        if method(node) in CHANGES:
+            found |= names_in(node.func.value)
+    return found
+
+
+def with_parents(tree):
+    return [(child, parent) for parent in ast.walk(tree) for child in ast.iter_child_nodes(parent)]
+
+
 class Language(unittest.TestCase):
+    def test_keywords(self):
+        for name, tree in trees().items():
+            for node in ast.walk(tree):
+                if isinstance(node, ast.Call):
+                    for each in node.keywords:
+                        self.assertIn(each.arg, KEYWORDS.get(called(node), ()), (name, node.lineno))
+                        if each.arg in ("reverse", "strict"):
+                            self.assertIsInstance(each.value, ast.Constant)
+
+    def test_is_stands_beside_none_true_and_false(self):
+        for name, tree in trees().items():
+            for node in ast.walk(tree):
+                if isinstance(node, ast.Compare) and any(isinstance(each, (ast.Is, ast.IsNot)) for each in node.ops):
+                    self.assertIsInstance(node.comparators[0], ast.Constant, (name, node.lineno))
+
+    def test_powers_and_texts(self):
+        for name, tree in trees().items():
+            for node in ast.walk(tree):
+                if isinstance(node, ast.BinOp) and isinstance(node.op, ast.Pow):
+                    self.assertIsInstance(node.right, ast.Constant, (name, node.lineno))
+                if isinstance(node, ast.Constant) and isinstance(node.value, str):
+                    self.assertNotIn("%", node.value, (name, node.lineno))
+
+    def test_walked_at_once(self):
+        for name, tree in trees().items():
+            for node, parent in with_parents(tree):
+                if called(node) in WALKED or method(node) in WALKED_METHODS:
+                    walked = isinstance(parent, (ast.For, ast.comprehension)) and parent.iter is node
+                    self.assertTrue(walked or called(parent) in WALKERS, (name, node.lineno))
+                if called(node) in ("set", "frozenset"):
+                    self.assertTrue(isinstance(parent, ast.Compare) or called(parent) in ("sorted", "len"))
+
+    def test_what_a_loop_walks_is_not_changed_in_it(self):
+        for name, tree in trees().items():
+            for node in ast.walk(tree):
+                if isinstance(node, ast.For):
+                    within = [each for each in ast.walk(node.iter) if called(each) not in WALKERS]
+                    walked = {each.id for each in within if isinstance(each, ast.Name)}
+                    self.assertFalse(walked & changed_in(node.body), (name, node.lineno))
+
+    def test_names_of_a_file_are_bound_once_and_hold_no_lists(self):
+        for name, tree in trees().items():
+            own = defined(tree) + [each.name for row in tree.body if isinstance(row, ast.ImportFrom) for each in row.names]
+            self.assertEqual(len(own), len(set(own)), name)
+            for row in tree.body:
+                if isinstance(row, ast.Assign):
+                    self.assertIsInstance(row.value, (ast.Constant, ast.Tuple), (name, row.lineno))
+
     def test_files_and_signs(self):
         self.assertIn(PACKAGE / "__init__.py", files())
         for path in files():

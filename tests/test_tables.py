@@ -1,13 +1,12 @@
 import unittest
-from copy import deepcopy
 from fractions import Fraction
 
 from bandwright.errors import NoFit
 from bandwright.tables import carried, is_table, one_table, product, through
 from bandwright.worlds import World
+from oracles import SEVEN, Owned, expected_product, products_sum
 from samples import FRACTIONS, GREAT, GREAT_TOO, fraction, other_things, told
 
-SEVEN = World(("wheel", 7))
 WORLDS = [FRACTIONS, SEVEN, World(("wheel", 2)), World(("wheel", 997))]
 SIZES = [(1, 1, 1), (1, 4, 2), (4, 1, 3), (2, 3, 4), (3, 3, 3), (5, 2, 1), (40, 3, 40), (1, 40, 1)]
 
@@ -19,23 +18,6 @@ def sample(world, n, m, seed=1):
         bottom = 1 if world.told() != ("fractions",) else 1 + (2 * i + j + seed) % 5
         return world.of(top, bottom)
     return [[entry(i, j) for j in range(m)] for i in range(n)]
-
-
-def value(world, number):
-    return fraction(number) if world.told() == ("fractions",) else number
-
-
-def number_of(world, total):
-    return told(total) if world.told() == ("fractions",) else total % world.told()[1]
-
-
-def products_sum(world, pairs):
-    return number_of(world, sum(value(world, a) * value(world, b) for a, b in pairs))
-
-
-def expected_product(world, one, other):
-    return [[products_sum(world, [(row[k], other[k][j]) for k in range(len(other))])
-             for j in range(len(other[0]))] for row in one]
 
 
 class IsTable(unittest.TestCase):
@@ -227,38 +209,16 @@ class OneTables(unittest.TestCase):
         self.assertEqual(one_table(world=SEVEN, n=1), [[1]])
 
 
-class NothingKept(unittest.TestCase):
-    def spoil(self, thing):
-        """Changes every list in what was told, as an asker may."""
-        for each in thing:
-            if isinstance(each, list):
-                self.spoil(each)
-        thing.append("spoiled")
-        thing[0] = "spoiled"
-
-    def check(self, ask, handed):
-        before = deepcopy(handed)
-        first = ask(*handed)
-        right = deepcopy(first)
-        self.assertEqual(handed, before)
-        self.spoil(first)
-        self.assertEqual(handed, before)
-        second = ask(*handed)
-        self.assertEqual(second, right)
-        for each in handed:
-            self.spoil(each)
-        self.assertEqual(second, right)
-        self.assertEqual(ask(*before), right)
-
+class NothingKept(Owned, unittest.TestCase):
     def test_each_of_the_four(self):
         for world in WORLDS:
             for n, m in ((1, 1), (2, 3), (4, 4)):
-                self.check(lambda table, row: carried(world, table, row), [sample(world, n, m), sample(world, 1, m)[0]])
-                self.check(lambda row, table: through(world, row, table), [sample(world, 1, n)[0], sample(world, n, m)])
-                self.check(lambda a, b: product(world, a, b), [sample(world, n, m), sample(world, m, n)])
-                self.check(lambda a: product(world, a, one_table(world, m)), [sample(world, n, m)])
-                self.check(lambda a: product(world, one_table(world, n), a), [sample(world, n, m)])
-                self.check(lambda: one_table(world, n), [])
+                self.owned(lambda table, row: carried(world, table, row), [sample(world, n, m), sample(world, 1, m)[0]])
+                self.owned(lambda row, table: through(world, row, table), [sample(world, 1, n)[0], sample(world, n, m)])
+                self.owned(lambda a, b: product(world, a, b), [sample(world, n, m), sample(world, m, n)])
+                self.owned(lambda a: product(world, a, one_table(world, m)), [sample(world, n, m)])
+                self.owned(lambda a: product(world, one_table(world, n), a), [sample(world, n, m)])
+                self.owned(lambda: one_table(world, n), [])
 
     def test_rows_of_one_told_table_are_apart(self):
         for table in (one_table(SEVEN, 3), product(SEVEN, [[1], [1], [1]], [[1, 2]])):
