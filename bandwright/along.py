@@ -33,7 +33,7 @@ def tied_move(world, work, others, order, many):
 
 
 def along(world, table, order, aim):
-    check_aim(table, aim)
+    check_aim(len(table), aim)
     told = packed(world, table, order)
     work = told[0]
     others = told[1]

@@ -1,5 +1,6 @@
 """Tables undone plainly: one row, many, or a row that bars, each of which can be shown."""
 
+from bandwright.errors import Tied
 from bandwright.reduced import reduced
 from bandwright.tables import carried, check_aim, columns, has_size, one_table, paired_sum, square_size, through, width
 
@@ -35,7 +36,7 @@ def bar_of(world, table, aim):
 
 def undone(world, table, aim):
     wide = width(table)
-    check_aim(table, aim)
+    check_aim(len(table), aim)
     told = reduced(world, beside(table, [[number] for number in aim]))
     rows = told[0]
     leads = told[1]
@@ -80,3 +81,20 @@ def back_of(world, table):
     if told[1] != list(range(n)):
         return None
     return [row[n:] for row in told[0]]
+
+
+# Any row, not all noughts, that is carried to noughts; None where there is none.
+def some_move(world, table):
+    wide = width(table)
+    told = reduced(world, table)
+    free = [place for place in range(wide) if place not in told[1]]
+    if len(free) == 0:
+        return None
+    return move_of(world, told[0], told[1], wide, free[0])
+
+
+def sure_back(world, table):
+    back = back_of(world, table)
+    if back is None:
+        raise Tied(some_move(world, table))
+    return back

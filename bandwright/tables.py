@@ -34,8 +34,8 @@ def square_size(table):
     return len(table)
 
 
-def check_aim(table, aim):
-    if len(aim) != len(table):
+def check_aim(n, aim):
+    if len(aim) != n:
         raise NoFit("an aim needs a number for each row of the table")
 
 
@@ -93,6 +93,22 @@ def product(world, one, other):
     if width(one) != len(other):
         raise NoFit("the first table needs a column for each row of the second")
     return paired_sums(world, one, columns(other))
+
+
+def row_plus(world, one, other):
+    return [world.plus(a, b) for a, b in zip(one, other)]
+
+
+def row_minus(world, one, other):
+    return [world.minus(a, b) for a, b in zip(one, other)]
+
+
+def table_plus(world, one, other):
+    return [row_plus(world, row, more) for row, more in zip(one, other)]
+
+
+def table_minus(world, one, other):
+    return [row_minus(world, row, less) for row, less in zip(one, other)]
 
 
 def one_table_row(world, n, place):
