@@ -75,12 +75,18 @@ def are_moves(world, table, rows):
     return len(reduced(world, rows)[1]) == len(rows) and all([is_move(world, table, row) for row in rows])
 
 
-def back_of(world, table):
+# The back of a table times another one, or None where there is no back. Where only this is asked for, the back itself
+# needn't be found.
+def back_times(world, table, other):
     n = square_size(table)
-    told = reduced(world, beside(table, one_table(world, n)))
+    told = reduced(world, beside(table, other))
     if told[1] != list(range(n)):
         return None
     return [row[n:] for row in told[0]]
+
+
+def back_of(world, table):
+    return back_times(world, table, one_table(world, square_size(table)))
 
 
 # Any row, not all noughts, that is carried to noughts; None where there is none.
@@ -93,8 +99,8 @@ def some_move(world, table):
     return move_of(world, told[0], told[1], wide, free[0])
 
 
-def sure_back(world, table):
-    back = back_of(world, table)
-    if back is None:
+def sure_back_times(world, table, other):
+    told = back_times(world, table, other)
+    if told is None:
         raise Tied(some_move(world, table))
-    return back
+    return told

@@ -1,10 +1,10 @@
 """Tables split at a part of their places, undone by the part and what it leaves of the rest."""
 
 from bandwright.errors import NoOrder
-from bandwright.plain import some_move, sure_back, undone
+from bandwright.plain import beside, some_move, sure_back_times, undone
 from bandwright.ranks import picked
 from bandwright.shapes import is_place
-from bandwright.tables import carried, check_aim, product, row_minus, square_size, table_minus
+from bandwright.tables import carried, check_aim, one_table, product, row_minus, square_size, table_minus
 from bandwright.wholes import is_rising
 
 
@@ -27,38 +27,52 @@ def corner(table, down, across):
     return [picked(table[place], across) for place in down]
 
 
-def rest_of(world, table, part, others, back):
-    less = product(world, corner(table, others, part), product(world, back, corner(table, part, others)))
-    return table_minus(world, corner(table, others, others), less)
+# The back of the part's own table times what stands beside it, and times some columns more.
+def parted_at(world, table, part, more):
+    asked = beside(corner(table, part, others_of(part, len(table))), more)
+    told = sure_back_times(world, corner(table, part, part), asked)
+    wide = len(table) - len(part)
+    return ([row[:wide] for row in told], [row[wide:] for row in told])
+
+
+def rest_of(world, table, part, outward):
+    others = others_of(part, len(table))
+    return table_minus(world, corner(table, others, others), product(world, corner(table, others, part), outward))
 
 
 def split(world, table, part):
-    n = square_size(table)
-    check_part(part, n)
-    back = sure_back(world, corner(table, part, part))
-    return (back, rest_of(world, table, part, others_of(part, n), back))
+    check_part(part, square_size(table))
+    told = parted_at(world, table, part, one_table(world, len(part)))
+    return (told[1], rest_of(world, table, part, told[0]))
 
 
-# The whole row of what stands at the other places: at the part it is what the part would have of itself, less what
-# the others do there.
-def whole_row(world, table, part, back, own, given):
+# What the rest is asked for is the aim less what the part, answering its own, does there.
+def left_of_aim(world, table, part, own, aim):
     others = others_of(part, len(table))
-    done = carried(world, back, carried(world, corner(table, part, others), given))
-    told = [world.of(0)] * len(table)
-    for place, number in zip(part + others, row_minus(world, own, done) + given):
+    return row_minus(world, picked(aim, others), carried(world, corner(table, others, part), own))
+
+
+# At the part stands what it would be by itself, less what the rest does to it.
+def whole_row(world, part, outward, own, given):
+    n = len(part) + len(given)
+    places = part + others_of(part, n)
+    numbers = row_minus(world, own, carried(world, outward, given)) + given
+    told = [world.of(0)] * n
+    for place, number in zip(places, numbers):
         told[place] = number
     return told
 
 
 def split_undone(world, table, part, aim):
-    check_aim(square_size(table), aim)
-    parts = split(world, table, part)
-    back = parts[0]
-    rest = parts[1]
-    given = some_move(world, rest)
-    if given is not None:
-        return ("loose", whole_row(world, table, part, back, [world.of(0)] * len(part), given))
-    others = others_of(part, len(table))
-    own = carried(world, back, picked(aim, part))
-    left = row_minus(world, picked(aim, others), carried(world, corner(table, others, part), own))
-    return ("one", whole_row(world, table, part, back, own, undone(world, rest, left)[1]))
+    n = square_size(table)
+    check_aim(n, aim)
+    check_part(part, n)
+    told = parted_at(world, table, part, [[number] for number in picked(aim, part)])
+    outward = told[0]
+    rest = rest_of(world, table, part, outward)
+    move = some_move(world, rest)
+    if move is not None:
+        return ("loose", whole_row(world, part, outward, [world.of(0)] * len(part), move))
+    own = [row[0] for row in told[1]]
+    given = undone(world, rest, left_of_aim(world, table, part, own, aim))[1]
+    return ("one", whole_row(world, part, outward, own, given))

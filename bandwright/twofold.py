@@ -1,8 +1,8 @@
 """Tables of tables: each number of the one taken times the whole other, undone by both."""
 
 from bandwright.errors import NoFit
-from bandwright.plain import back_of, some_move
-from bandwright.tables import MOST, check_aim, columns, one_table_row, product, square_size, width
+from bandwright.plain import back_times, some_move
+from bandwright.tables import MOST, check_aim, columns, one_table_row, square_size, width
 
 
 def check_sizes(one, other):
@@ -25,25 +25,24 @@ def twofold(world, one, other):
     return told
 
 
-# Cut into rows, a row that the twofold table carries is a table of its own: the one carries its columns, the other its
-# rows. So their backs undo it one after the other.
-def twofold_answer(world, backs, aim):
-    many = len(backs[1])
-    rows = [aim[start:start + many] for start in range(0, len(aim), many)]
+def joined(rows):
     told = []
-    for row in product(world, product(world, backs[0], rows), columns(backs[1])):
+    for row in rows:
         told.extend(row)
     return told
 
 
+# Cut into rows, a row that the twofold table carries is a table of its own: the one carries its columns, the other its
+# rows. So they are undone one after the other.
 def twofold_undone(world, one, other, aim):
     n = square_size(one)
     k = square_size(other)
     check_sizes(one, other)
     check_aim(n * k, aim)
-    backs = (back_of(world, one), back_of(world, other))
-    if backs[0] is None:
+    half = back_times(world, one, [aim[i * k:i * k + k] for i in range(n)])
+    if half is None:
         return ("loose", 0, twofold_row(world, some_move(world, one), one_table_row(world, k, 0)))
-    if backs[1] is None:
+    whole = back_times(world, other, columns(half))
+    if whole is None:
         return ("loose", 1, twofold_row(world, one_table_row(world, n, 0), some_move(world, other)))
-    return ("one", twofold_answer(world, backs, aim))
+    return ("one", joined(columns(whole)))

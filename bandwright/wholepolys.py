@@ -64,9 +64,9 @@ def whole_common(world, one, other):
         gap = len(last[0]) - len(now[0])
         told = whole_parted(world, last[0], now[0])
         least = lead * power(height, gap)
-        following = [next_part(world, a, b, told[0], told[2], least) for a, b in zip(last, now)]
+        following = [next_part(world, a, b, told[0], told[2], least) for a, b in zip(last[1:], now[1:])]
         last = now
-        now = following
+        now = [whole_trimmed(world.evenly(told[1], least))] + following
         lead = last[0][-1]
         height = world.evenly([power(lead, gap)], power(height, gap - 1))[0]
     return last
