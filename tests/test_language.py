@@ -153,6 +153,41 @@ class Language(unittest.TestCase):
                 if isinstance(node, ast.Constant):
                     self.assertIn(node.value.__class__, (int, str, bool, None.__class__), (name, node.lineno))
 
+    def test_classes(self):
+        methods, values = set(), set()
+        for name, tree in trees().items():
+            self.assertEqual(sum(isinstance(node, ast.ClassDef) for node in ast.walk(tree)),
+                             sum(isinstance(node, ast.ClassDef) for node in tree.body), name)
+            for node in tree.body:
+                if isinstance(node, ast.ClassDef):
+                    rows = [row for row in node.body if not isinstance(row, ast.Pass)]
+                    self.assertTrue(all(isinstance(row, ast.FunctionDef) for row in rows), (name, node.name))
+                    self.assertEqual(len({row.name for row in rows}), len(rows), (name, node.name))
+                    self.assertFalse(node.decorator_list or node.keywords or len(node.bases) > 1, (name, node.name))
+                    methods |= {row.name for row in rows}
+            for node in ast.walk(tree):
+                if isinstance(node, ast.Attribute) and isinstance(node.ctx, ast.Store):
+                    self.assertEqual((node.value.__class__, node.value.id), (ast.Name, "self"), (name, node.lineno))
+                    values.add(node.attr)
+        self.assertFalse(methods & values)
+
+    def test_loops_refusals_and_kinds(self):
+        kinds = {"int", "str", "bool", "list", "tuple", "dict"}
+        for name, tree in trees().items():
+            for node in ast.walk(tree):
+                place = (name, getattr(node, "lineno", None))
+                if isinstance(node, (ast.For, ast.While)):
+                    self.assertFalse(node.orelse, place)
+                if isinstance(node, ast.Raise):
+                    self.assertIsInstance(node.exc, ast.Call, place)
+                if isinstance(node, ast.arg):
+                    self.assertIsNone(node.annotation, place)
+                if called(node) == "isinstance":
+                    self.assertLessEqual(names_in(node.args[1]), kinds, place)
+                if isinstance(node, ast.FunctionDef):
+                    self.assertIsNone(node.returns, place)
+                    self.assertTrue(all(isinstance(each, ast.Constant) for each in node.args.defaults), place)
+
     def test_names(self):
         for name, tree in trees().items():
             for each in bound(tree):
