@@ -250,6 +250,18 @@ class Common(Polys):
                                for number in some_row(world, random, random.randrange(1, 14))] for row in range(2)]
                 self.check_common(world, one, other)
 
+    def test_rows_made_of_long_and_short_quotients(self):
+        for world in WORLDS:
+            random = Random(13)
+            for turn in range(60):
+                last, now = [], some_row(world, random, random.randrange(3)) + [world.of(1)]
+                right = now
+                for step in range(random.randrange(1, 6)):
+                    by = bare(world, [world.of(0), world.of(1)] + some_row(world, random, random.randrange(3)))
+                    last, now = now, expected_sum(world, expected_times(world, by, now), last)
+                self.assertEqual(self.check_common(world, now, last), right)
+                self.assertEqual(self.check_common(world, last, now), right)
+
     def test_rows_of_forty_and_more(self):
         for world in [FRACTIONS, SEVEN, World(("wheel", 997))] + SMALL_WHEELS:
             random = Random(12)
